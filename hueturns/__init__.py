@@ -1,0 +1,1 @@
+"""Rounds through places that change their hue at every place."""

@@ -1,0 +1,63 @@
+"""Whether values are of the kinds that the package speaks of, and the errors where they are not."""
+
+from hueturns.errors import InvalidHue, InvalidPlace, InvalidPlaces
+from hueturns.limits import MOST_PLACES
+
+HUES = "abcdef"
+
+
+def is_integer(value):
+    """Whether a value is an integer; True and False are none."""
+    return isinstance(value, int) and not isinstance(value, bool)
+
+
+def is_integer_from(value, least, most):
+    """Whether a value is an integer from the least one to the most one."""
+    return is_integer(value) and least <= value <= most
+
+
+def is_size(value):
+    """Whether a value is the size of a net."""
+    return is_integer_from(value, 1, MOST_PLACES)
+
+
+def is_place(value, size):
+    """Whether a value is a place of the nets of this size."""
+    return is_integer_from(value, 0, size - 1)
+
+
+def is_hue(value):
+    """Whether a value is a hue."""
+    # A string of no letter or of several ones may be within HUES, too.
+    return isinstance(value, str) and len(value) == 1 and value in HUES
+
+
+def need_place(place, size):
+    """Raises InvalidPlace for what is no place of the nets of this size."""
+    if not is_place(place, size):
+        raise InvalidPlace(place)
+
+
+def need_two_places(one, two, size):
+    """Raises InvalidPlace for the first one that is no place, or for the second one if it is the first one."""
+    need_place(one, size)
+    need_place(two, size)
+    if one == two:
+        raise InvalidPlace(two)
+
+
+def need_hue(hue):
+    """Raises InvalidHue for what is no hue."""
+    if not is_hue(hue):
+        raise InvalidHue(hue)
+
+
+def need_ascending_places(places, size):
+    """Raises InvalidPlaces for what is no ascending tuple of places of the nets of this size."""
+    if not isinstance(places, tuple):
+        raise InvalidPlaces(None)
+    for index, place in enumerate(places):
+        if not is_place(place, size):
+            raise InvalidPlaces(index)
+        if index > 0 and place <= places[index - 1]:
+            raise InvalidPlaces(index)

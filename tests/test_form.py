@@ -1,0 +1,193 @@
+"""The form of the package's files: what ../shared/LANGUAGE.md asks for and a look at the rows can tell."""
+
+import ast
+import builtins
+import pathlib
+import re
+import unittest
+import warnings
+
+FOLDER = pathlib.Path(__file__).resolve().parent.parent / "hueturns"
+FILES = sorted(FOLDER.glob("*.py"))
+
+LIBRARY = {"heapq", "math", "itertools", "collections"}
+BUILTINS = set("""len range enumerate zip min max sum abs sorted reversed int str bool bytes list tuple dict set
+    frozenset isinstance ord repr any all divmod pow getattr hasattr setattr iter next map Exception ValueError
+    TypeError KeyError IndexError LookupError ZeroDivisionError ArithmeticError OverflowError RuntimeError
+    NotImplementedError AttributeError StopIteration NotImplemented property staticmethod classmethod
+    super""".split())
+PYTHONS = set(dir(builtins))
+DUNDERS = set("""__init__ __eq__ __repr__ __str__ __len__ __enter__ __exit__ __call__ __iter__ __bool__ __contains__
+    __getitem__ __setitem__ __class__ __name__""".split())
+BARRED_NODES = (ast.Global, ast.AsyncFunctionDef, ast.AsyncFor, ast.AsyncWith, ast.Await, ast.Div, ast.Import)
+BARRED_WORDS = set("""register mro elements open input law version_info with_traceback add_note eval exec compile
+    globals locals vars dir id help super exit quit os sys gc args chr print hash format""".split())
+BARRED_IN_FILES = re.compile(r"\b(type|typing|enum|Enum|Generic|Protocol|ABC|namedtuple|NamedTuple)\b"
+                             r"|dataclass|overload|contextmanager")
+
+
+def trees():
+    """The name, the text and the tree of each file of the package."""
+    return [(file.name, file.read_text(), ast.parse(file.read_text())) for file in FILES]
+
+
+def rows_of(tree):
+    """The text of a file without its comments and docstrings."""
+    for node in ast.walk(tree):
+        if isinstance(node, (ast.Module, ast.FunctionDef, ast.ClassDef)) and ast.get_docstring(node) is not None:
+            node.body[0] = ast.Pass()
+    return ast.unparse(tree)
+
+
+def names_bound(tree):
+    """All names that a file gives to something."""
+    for node in ast.walk(tree):
+        if isinstance(node, (ast.FunctionDef, ast.ClassDef)):
+            yield node.name
+        elif isinstance(node, ast.arg):
+            yield node.arg
+        elif isinstance(node, ast.Name) and not isinstance(node.ctx, ast.Load):
+            yield node.id
+
+
+def names_read(tree):
+    """All names that a file reads."""
+    return {node.id for node in ast.walk(tree) if isinstance(node, ast.Name) and isinstance(node.ctx, ast.Load)}
+
+
+class TestFiles(unittest.TestCase):
+    def test_only_files_of_python(self):
+        others = [each.name for each in FOLDER.iterdir() if each not in FILES and each.name != "__pycache__"]
+        self.assertEqual(others, [])
+        self.assertLessEqual({"__init__.py", "limits.py", "errors.py", "nets.py"}, {file.name for file in FILES})
+
+    def test_size_and_characters(self):
+        for name, text, _ in trees():
+            with self.subTest(name=name):
+                self.assertRegex(text, r"\A[ -~\n]*\n\Z")
+                self.assertLessEqual(len(text.splitlines()), 399)
+                self.assertLessEqual(max(map(len, text.splitlines())), 120)
+
+    def test_no_warnings(self):
+        for name, text, _ in trees():
+            with self.subTest(name=name), warnings.catch_warnings():
+                warnings.simplefilter("error")
+                compile(text, name, "exec")
+
+    def test_length_of_functions(self):
+        for name, _, tree in trees():
+            for node in ast.walk(tree):
+                if isinstance(node, ast.FunctionDef):
+                    with self.subTest(name=name, function=node.name):
+                        self.assertLessEqual(node.end_lineno - node.lineno + 1, 40)
+
+    def test_barred_words(self):
+        for name, text, tree in trees():
+            with self.subTest(name=name):
+                self.assertNotIn("_wall", text)
+                self.assertIsNone(BARRED_IN_FILES.search(rows_of(tree)))
+
+
+class TestModules(unittest.TestCase):
+    def test_imports(self):
+        own = {f"hueturns.{file.stem}": ast.parse(file.read_text()) for file in FILES}
+        for name, _, tree in trees():
+            for node in ast.walk(tree):
+                if isinstance(node, ast.ImportFrom) and node.module not in LIBRARY:
+                    with self.subTest(name=name, module=node.module):
+                        self.assertEqual(node.level, 0)
+                        self.assertIn(node, tree.body)
+                        defined = {each.name for each in own[node.module].body if hasattr(each, "name")}
+                        defined |= {each.targets[0].id for each in own[node.module].body
+                                    if isinstance(each, ast.Assign)}
+                        self.assertEqual([each.name for each in node.names if each.name not in defined], [])
+                        self.assertEqual([each.asname for each in node.names if each.asname is not None], [])
+
+    def test_all_imports_are_used(self):
+        for name, _, tree in trees():
+            imported = {each.name for node in tree.body if isinstance(node, ast.ImportFrom) for each in node.names}
+            with self.subTest(name=name):
+                self.assertEqual(imported - names_read(tree), set())
+
+    def test_no_circles(self):
+        needs = {f"hueturns.{file.stem}": {node.module for node in ast.parse(file.read_text()).body
+                                           if isinstance(node, ast.ImportFrom)} - LIBRARY for file in FILES}
+        while needs:
+            free = [name for name in needs if not needs[name] & set(needs)]
+            self.assertTrue(free, needs)
+            needs = {name: needs[name] for name in needs if name not in free}
+
+    def test_module_level(self):
+        for name, _, tree in trees():
+            for at, node in enumerate(tree.body):
+                docstring = at == 0 and isinstance(node, ast.Expr) and isinstance(node.value, ast.Constant)
+                with self.subTest(name=name, line=node.lineno):
+                    self.assertTrue(docstring or isinstance(node, (ast.ImportFrom, ast.FunctionDef, ast.ClassDef,
+                                                                   ast.Assign)))
+
+    def test_names(self):
+        for name, _, tree in trees():
+            bound = list(names_bound(tree))
+            for each in bound:
+                with self.subTest(name=name, bound=each):
+                    self.assertFalse(each.startswith("__") and each not in DUNDERS)
+                    self.assertNotIn(each, PYTHONS)
+                    self.assertNotIn(each, BARRED_WORDS)
+
+    def test_builtins(self):
+        for name, _, tree in trees():
+            with self.subTest(name=name):
+                self.assertEqual((names_read(tree) & PYTHONS) - BUILTINS, set())
+
+
+class TestRows(unittest.TestCase):
+    def test_no_barred_statements(self):
+        for name, _, tree in trees():
+            for node in ast.walk(tree):
+                with self.subTest(name=name, node=node.__class__.__name__):
+                    if isinstance(node, ast.Set):
+                        self.assertLess(len(node.elts), 3)
+                    else:
+                        self.assertNotIsInstance(node, BARRED_NODES)
+
+    def test_constants(self):
+        for name, _, tree in trees():
+            for node in ast.walk(tree):
+                if isinstance(node, ast.Constant):
+                    with self.subTest(name=name, line=node.lineno):
+                        self.assertNotIsInstance(node.value, (float, complex))
+                        self.assertFalse(isinstance(node.value, str) and "%" in node.value)
+
+    def test_is_with_none_true_and_false_only(self):
+        for name, _, tree in trees():
+            for node in ast.walk(tree):
+                if isinstance(node, ast.Compare) and isinstance(node.ops[0], (ast.Is, ast.IsNot)):
+                    with self.subTest(name=name, line=node.lineno):
+                        self.assertIn(ast.unparse(node.comparators[0]), ("None", "True", "False"))
+
+    def test_decorators(self):
+        for name, _, tree in trees():
+            for node in ast.walk(tree):
+                for each in getattr(node, "decorator_list", []):
+                    with self.subTest(name=name, line=node.lineno):
+                        self.assertIn(ast.unparse(each), ("property", "staticmethod", "classmethod"))
+
+    def test_no_error_of_pythons_own_is_caught_broadly(self):
+        for name, _, tree in trees():
+            for node in ast.walk(tree):
+                if isinstance(node, ast.ExceptHandler):
+                    with self.subTest(name=name, line=node.lineno):
+                        self.assertIsNotNone(node.type)
+                        self.assertNotIn(ast.unparse(node.type), ("Exception", "TypeError", "ArithmeticError"))
+
+    def test_raised_on_the_spot(self):
+        for name, _, tree in trees():
+            for node in ast.walk(tree):
+                if isinstance(node, ast.Raise) and node.exc is not None:
+                    with self.subTest(name=name, line=node.lineno):
+                        self.assertIsInstance(node.exc, ast.Call)
+                        self.assertIsInstance(node.exc.func, ast.Name)
+
+
+if __name__ == "__main__":
+    unittest.main()
