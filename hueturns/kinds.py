@@ -1,6 +1,6 @@
 """Whether values are of the kinds that the package speaks of, and the errors where they are not."""
 
-from hueturns.errors import InvalidHue, InvalidPlace, InvalidPlaces
+from hueturns.errors import InvalidHue, InvalidNumber, InvalidPlace, InvalidPlaces, TooGreat
 from hueturns.limits import MOST_PLACES
 
 HUES = "abcdef"
@@ -50,6 +50,27 @@ def need_hue(hue):
     """Raises InvalidHue for what is no hue."""
     if not is_hue(hue):
         raise InvalidHue(hue)
+
+
+def need_number(number, most):
+    """Raises InvalidNumber for what is no integer from 0 to the most one."""
+    if not is_integer_from(number, 0, most):
+        raise InvalidNumber(number)
+
+
+def need_at_most(number, most):
+    """Raises TooGreat for a number above the most one."""
+    if number > most:
+        raise TooGreat(number)
+
+
+def need_places(places, size):
+    """Raises InvalidPlaces for what is no tuple of places of the nets of this size."""
+    if not isinstance(places, tuple):
+        raise InvalidPlaces(None)
+    for index, place in enumerate(places):
+        if not is_place(place, size):
+            raise InvalidPlaces(index)
 
 
 def need_ascending_places(places, size):

@@ -1,7 +1,8 @@
 """Nets: places, and roads between them, each of which has a hue."""
 
-from hueturns.errors import InvalidNumber, InvalidRoads, InvalidText, NoRoad, NotANet, TooGreat
-from hueturns.kinds import is_hue, is_place, is_size, need_ascending_places, need_hue, need_place, need_two_places
+from hueturns.errors import InvalidNumber, InvalidRoads, InvalidText, NoRoad, NotANet
+from hueturns.kinds import (is_hue, is_place, is_size, need_ascending_places, need_at_most, need_hue, need_place,
+                            need_two_places)
 
 DIGITS = "0123456789"
 MOST_EXCHANGED = 7
@@ -179,8 +180,7 @@ def alike(net, other):
     need_net(net)
     need_net(other)
     for each in (net, other):
-        if each.size > MOST_EXCHANGED:
-            raise TooGreat(each.size)
+        need_at_most(each.size, MOST_EXCHANGED)
     # No road has no hue, on both sides: so a missing road goes over to a missing one.
     return net.size == other.size and can_complete(net, other, [], {None: None})
 

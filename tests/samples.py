@@ -20,6 +20,10 @@ NO_INTEGERS = (True, False, None, "", "0", "1", b"1", (), (1,), [], [1], {}, {1:
 NO_TUPLES = (True, False, None, 0, 1, "", "012", "3:", b"", [], [0, 1], [(0, 1, "a")], {}, {0: 1}, set(), object(),
              THREE, range(2), tuple, len)
 
+# What is a hue nowhere, though None stands for any hue where ways are asked for.
+NO_HUES = (True, False, None, 0, 1, "", "g", "A", "F", "z", " ", "ab", "aa", "a ", " a", "abcdef", "-", "0", b"a",
+           ("a",), ["a"], {"a": 1}, {"a"}, object(), THREE, str)
+
 
 def every_pair(size):
     """All pairs of places, the lesser one first."""

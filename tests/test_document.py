@@ -2,9 +2,14 @@
 
 import unittest
 
+from hueturns.cores import core, core_pieces, hues_to, is_plain, order_of
 from hueturns.errors import InvalidText
 from hueturns.nets import Net, alike
-from tests.samples import DULL, FULL, KITE, PATH, THREE, check_given
+from hueturns.rounds import (count_rounds, first_round, has_round, in_all, is_round, key_places, packed, rounds,
+                             rounds_at, rounds_by)
+from hueturns.walks import count_walks, first_walk, has_turn, has_walk, reach, turn_numbers, walk_numbers
+from hueturns.ways import apart, far, first_way, ways
+from tests.samples import DULL, FULL, KITE, PATH, SQUARE, THREE, check_given
 
 
 class TestNets(unittest.TestCase):
@@ -20,6 +25,73 @@ class TestNets(unittest.TestCase):
 
     def test_wrong_text(self):
         check_given(self, InvalidText, "3: 0-2a 0-1b", Net.read, "3: 0-2a 0-1b")
+
+
+class TestCores(unittest.TestCase):
+    def test_plain_places(self):
+        found = [hues_to(DULL, 1), hues_to(KITE, 3), hues_to(PATH, 2), is_plain(DULL, 0), is_plain(DULL, 1),
+                 is_plain(PATH, 2)]
+        printed = ("[(((0, 2), 'ab'),), (((0, 1, 2), 'ab'), ((4,), 'a')), (((0, 1), 'a'), ((3,), 'b')), "
+                   "True, False, True]")
+        self.assertEqual(repr(found), printed)
+
+    def test_taken_off(self):
+        found = [order_of(DULL), core(DULL), order_of(THREE), core(THREE), order_of(KITE), core(KITE), order_of(PATH),
+                 core_pieces(KITE), core_pieces(PATH)]
+        printed = ("[(0, 1, 2), (), (), (0, 1, 2), (4,), (0, 1, 2, 3), (0, 1, 2, 3), ((0, 1, 2, 3),), ()]")
+        self.assertEqual(repr(found), printed)
+
+
+class TestRounds(unittest.TestCase):
+    def test_told(self):
+        found = [first_round(THREE), first_round(DULL), has_round(KITE), rounds(KITE), count_rounds(FULL), in_all(KITE),
+                 in_all(FULL), in_all(PATH)]
+        printed = ("[(0, 1, 2), None, True, ((0, 1, 2, 3),), ((3, 4), (4, 3)), "
+                   "((0, 1), (0, 3), (1, 2), (2, 3)), (), None]")
+        self.assertEqual(repr(found), printed)
+
+    def test_asked(self):
+        found = [is_round(SQUARE, (2, 1, 0, 3)), is_round(SQUARE, (0, 1, 2)), is_round(DULL, (0, 1, 2)),
+                 is_round(FULL, (0, 1)), rounds(FULL)[-1], rounds_at(KITE, 4), len(rounds_at(FULL, 0)), packed(SQUARE),
+                 len(packed(FULL)), packed(DULL), key_places(KITE), key_places(FULL), key_places(DULL),
+                 rounds_by(KITE, 4, 3), len(rounds_by(FULL, 0, 1))]
+        printed = ("[True, False, False, False, (0, 2, 1, 3), (), 6, ((0, 1, 2, 3),), 1, (), (0, 1, 2, 3), (), None, "
+                   "(), 4]")
+        self.assertEqual(repr(found), printed)
+
+
+class TestWays(unittest.TestCase):
+    def test_told(self):
+        found = [ways(PATH, 0, 3), first_way(PATH, 1, 3), far(PATH, 0), ways(SQUARE, 0, 2), ways(SQUARE, 0, 2, "a"),
+                 ways(SQUARE, 0, 2, last="a"), first_way(SQUARE, 0, 1, "b")]
+        printed = ("[(), (1, 2, 3), (0, 1, None, None), ((0, 1, 2), (0, 3, 2)), ((0, 1, 2),), ((0, 3, 2),), "
+                   "(0, 3, 2, 1)]")
+        self.assertEqual(repr(found), printed)
+
+    def test_apart(self):
+        found = [apart(PATH), apart(FULL), far(KITE, 4), first_way(KITE, 4, 2), first_way(KITE, 4, 0, last="b")]
+        printed = "[((0, 2), (0, 3)), (), (2, 3, 4, 1, 0), (4, 3, 0, 1, 2), (4, 3, 0)]"
+        self.assertEqual(repr(found), printed)
+
+
+class TestWalks(unittest.TestCase):
+    def test_told(self):
+        found = [has_walk(SQUARE, 0, 0, 10 ** 30), has_walk(SQUARE, 0, 0, 6), count_walks(SQUARE, 0, 2, 2),
+                 count_walks(SQUARE, 0, 0, 8), count_walks(FULL, 0, 0, 3), first_walk(SQUARE, 0, 0, 4),
+                 first_walk(PATH, 0, 3, 3), first_walk(DULL, 1, 1, 0)]
+        self.assertEqual(repr(found), "[True, False, 2, 2, 6, (0, 1, 2, 3, 0), None, (1,)]")
+
+    def test_all_numbers(self):
+        found = [walk_numbers(SQUARE, 0, 0), walk_numbers(SQUARE, 0, 1), walk_numbers(PATH, 0, 3),
+                 walk_numbers(PATH, 1, 3), walk_numbers(DULL, 0, 1)]
+        printed = "[((0,), 0, 4), ((1,), 0, 2), ((), 0, 1), ((2,), 3, 1), ((1, 2), 3, 1)]"
+        self.assertEqual(repr(found), printed)
+
+    def test_reach_and_turns(self):
+        found = [reach(SQUARE, 0, 3), reach(KITE, 4, 10 ** 30), reach(PATH, 0, 2), has_turn(SQUARE, 0, 4),
+                 has_turn(DULL, 0, 3), has_turn(DULL, 1, 3), turn_numbers(SQUARE, 0), turn_numbers(THREE, 2)]
+        printed = "[(1, 3), (2,), (), True, False, False, ((4,), 1, 4), ((3,), 1, 3)]"
+        self.assertEqual(repr(found), printed)
 
 
 if __name__ == "__main__":

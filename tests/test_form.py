@@ -22,6 +22,10 @@ DUNDERS = set("""__init__ __eq__ __repr__ __str__ __len__ __enter__ __exit__ __c
 BARRED_NODES = (ast.Global, ast.AsyncFunctionDef, ast.AsyncFor, ast.AsyncWith, ast.Await, ast.Div, ast.Import)
 BARRED_WORDS = set("""register mro elements open input law version_info with_traceback add_note eval exec compile
     globals locals vars dir id help super exit quit os sys gc args chr print hash format""".split())
+METHODS = set("""append clear copy count endswith extend find get index insert isalnum isalpha isdigit islower isspace
+    isupper items join keys ljust lower lstrip partition pop remove replace reverse rfind rjust rpartition rsplit
+    rstrip setdefault split splitlines startswith strip update upper values zfill bit_length add discard
+    __init__""".split())
 BARRED_IN_FILES = re.compile(r"\b(type|typing|enum|Enum|Generic|Protocol|ABC|namedtuple|NamedTuple)\b"
                              r"|dataclass|overload|contextmanager")
 
@@ -59,7 +63,8 @@ class TestFiles(unittest.TestCase):
     def test_only_files_of_python(self):
         others = [each.name for each in FOLDER.iterdir() if each not in FILES and each.name != "__pycache__"]
         self.assertEqual(others, [])
-        self.assertLessEqual({"__init__.py", "limits.py", "errors.py", "nets.py"}, {file.name for file in FILES})
+        listed = {"__init__", "limits", "errors", "nets", "cores", "rounds", "ways", "walks"}
+        self.assertLessEqual(listed, {file.stem for file in FILES})
 
     def test_size_and_characters(self):
         for name, text, _ in trees():
@@ -134,6 +139,15 @@ class TestModules(unittest.TestCase):
                     self.assertNotIn(each, PYTHONS)
                     self.assertNotIn(each, BARRED_WORDS)
 
+    def test_no_name_of_an_import_is_given_away(self):
+        for name, _, tree in trees():
+            imported = {each.name for node in tree.body if isinstance(node, ast.ImportFrom) for each in node.names}
+            classes = {node.name for node in tree.body if isinstance(node, ast.ClassDef)}
+            variables = {each for node in ast.walk(tree) if isinstance(node, ast.FunctionDef)
+                         for each in names_bound(node) if each != node.name}
+            with self.subTest(name=name):
+                self.assertEqual(variables & (imported | classes), set())
+
     def test_builtins(self):
         for name, _, tree in trees():
             with self.subTest(name=name):
@@ -164,6 +178,31 @@ class TestRows(unittest.TestCase):
                 if isinstance(node, ast.Compare) and isinstance(node.ops[0], (ast.Is, ast.IsNot)):
                     with self.subTest(name=name, line=node.lineno):
                         self.assertIn(ast.unparse(node.comparators[0]), ("None", "True", "False"))
+
+    def test_methods(self):
+        own = {node.name for _, _, tree in trees() for node in ast.walk(tree) if isinstance(node, ast.FunctionDef)}
+        for name, _, tree in trees():
+            for node in ast.walk(tree):
+                if isinstance(node, ast.Call) and isinstance(node.func, ast.Attribute):
+                    with self.subTest(name=name, line=node.lineno):
+                        self.assertIn(node.func.attr, METHODS | own)
+
+    def test_no_generator_expressions(self):
+        # Beside a class with __eq__ they are barred from any, all, min, max, sum and sorted.
+        for name, _, tree in trees():
+            for node in ast.walk(tree):
+                with self.subTest(name=name):
+                    self.assertNotIsInstance(node, ast.GeneratorExp)
+
+    def test_sets_are_sorted_measured_or_kept(self):
+        for name, _, tree in trees():
+            for node in ast.walk(tree):
+                for each in ast.iter_child_nodes(node):
+                    if isinstance(each, (ast.Set, ast.SetComp)) or ast.unparse(each).startswith("set("):
+                        with self.subTest(name=name, line=each.lineno):
+                            taken = isinstance(node, ast.Call) and ast.unparse(node.func) in ("sorted", "len")
+                            kept = isinstance(node, ast.Assign) and isinstance(node.targets[0], ast.Name)
+                            self.assertTrue(taken or kept)
 
     def test_decorators(self):
         for name, _, tree in trees():

@@ -5,10 +5,9 @@ import unittest
 from hueturns.errors import (InvalidHue, InvalidNumber, InvalidPlace, InvalidPlaces, InvalidRoads, NoRoad, NotANet,
                              TooGreat)
 from hueturns.nets import Net, alike
-from tests.samples import (EMPTY_NINE, LONE, NO_INTEGERS, NO_TUPLES, PATH, THREE, check_given, check_index, raised)
+from tests.samples import (EMPTY_NINE, LONE, NO_HUES, NO_INTEGERS, NO_TUPLES, PATH, THREE, check_given, check_index,
+                           raised)
 
-NO_HUES = (True, False, None, 0, 1, "", "g", "A", "F", "z", " ", "ab", "aa", "a ", " a", "abcdef", "-", "0", b"a",
-           ("a",), ["a"], {"a": 1}, {"a"}, object(), THREE, str)
 NO_PLACES_OF_FOUR = (*NO_INTEGERS, -1, 4, 5, 9, 10 ** 30, -(10 ** 30))
 
 # Elements that are no roads of a net of four places.
