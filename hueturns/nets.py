@@ -3,6 +3,7 @@
 from hueturns.errors import InvalidNumber, InvalidRoads, InvalidText, NoRoad, NotANet
 from hueturns.kinds import (is_hue, is_place, is_size, need_ascending_places, need_at_most, need_hue, need_place,
                             need_two_places)
+from hueturns.masks import joined_by, mask_of, near_by_hue, pieces_within, places_of
 
 DIGITS = "0123456789"
 MOST_EXCHANGED = 7
@@ -62,13 +63,8 @@ class Net:
     def pieces(self, places):
         """The ascending tuple of the pieces of these places."""
         need_ascending_places(places, self._size)
-        found = []
-        left = list(places)
-        while left:
-            piece = piece_from(self, left[0], left)
-            found.append(piece)
-            left = [place for place in left if place not in piece]
-        return tuple(found)
+        joined = joined_by(near_by_hue(self._size, self._roads))
+        return tuple([places_of(piece) for piece in pieces_within(joined, mask_of(places))])
 
     def painted(self, one, two, hue):
         """The net in which the road between both places, old or new, has this hue."""
@@ -160,19 +156,6 @@ def road_of(one, two, hue):
 def roads_besides(net, one, two):
     """The roads of a net but for the one between both places."""
     return [road for road in net.roads if road[:2] != pair_of(one, two)]
-
-
-def piece_from(net, start, places):
-    """The piece of some places that one of them is in."""
-    seen = {start}
-    waiting = [start]
-    while waiting:
-        place = waiting.pop()
-        for other, _ in net.roads_at(place):
-            if other in places and other not in seen:
-                seen.add(other)
-                waiting.append(other)
-    return tuple(sorted(seen))
 
 
 def alike(net, other):

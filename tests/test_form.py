@@ -26,6 +26,8 @@ METHODS = set("""append clear copy count endswith extend find get index insert i
     isupper items join keys ljust lower lstrip partition pop remove replace reverse rfind rjust rpartition rsplit
     rstrip setdefault split splitlines startswith strip update upper values zfill bit_length add discard
     __init__""".split())
+# What goes through the ranges, zips and views that it is given.
+TAKERS = ("list", "tuple", "dict", "sorted", "sum", "any", "all", "enumerate", "zip", "min", "max")
 BARRED_IN_FILES = re.compile(r"\b(type|typing|enum|Enum|Generic|Protocol|ABC|namedtuple|NamedTuple)\b"
                              r"|dataclass|overload|contextmanager")
 
@@ -57,6 +59,13 @@ def names_bound(tree):
 def names_read(tree):
     """All names that a file reads."""
     return {node.id for node in ast.walk(tree) if isinstance(node, ast.Name) and isinstance(node.ctx, ast.Load)}
+
+
+def is_walked(call):
+    """Whether a call gives what has to be gone through on the spot."""
+    if isinstance(call.func, ast.Attribute):
+        return call.func.attr in ("items", "keys", "values")
+    return isinstance(call.func, ast.Name) and call.func.id in ("range", "zip", "enumerate", "reversed")
 
 
 class TestFiles(unittest.TestCase):
@@ -203,6 +212,28 @@ class TestRows(unittest.TestCase):
                             taken = isinstance(node, ast.Call) and ast.unparse(node.func) in ("sorted", "len")
                             kept = isinstance(node, ast.Assign) and isinstance(node.targets[0], ast.Name)
                             self.assertTrue(taken or kept)
+
+    def test_ranges_and_views_are_gone_through_at_once(self):
+        for name, _, tree in trees():
+            loops = [node.iter for node in ast.walk(tree) if isinstance(node, (ast.For, ast.comprehension))]
+            taken = [each for node in ast.walk(tree) if isinstance(node, ast.Call) and isinstance(node.func, ast.Name)
+                     for each in node.args if node.func.id in TAKERS]
+            for node in ast.walk(tree):
+                if isinstance(node, ast.Call) and is_walked(node):
+                    with self.subTest(name=name, line=node.lineno):
+                        self.assertTrue(any(node is each for each in (*loops, *taken)))
+
+    def test_no_range_is_passed_to_a_function_of_the_package(self):
+        for name, _, tree in trees():
+            kept = {target.id for node in ast.walk(tree) if isinstance(node, ast.Assign) for target in node.targets
+                    if isinstance(target, ast.Name) and isinstance(node.value, ast.Call) and is_walked(node.value)}
+            for node in ast.walk(tree):
+                if isinstance(node, ast.Call) and not (isinstance(node.func, ast.Name) and node.func.id in PYTHONS):
+                    passed = [*node.args, *(each.value for each in node.keywords)]
+                    with self.subTest(name=name, line=node.lineno):
+                        self.assertEqual([each for each in passed if isinstance(each, ast.Call) and is_walked(each)], [])
+                        self.assertEqual([each.id for each in passed if isinstance(each, ast.Name) and each.id in kept],
+                                         [])
 
     def test_decorators(self):
         for name, _, tree in trees():
