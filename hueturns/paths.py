@@ -1,18 +1,30 @@
-"""Paths: tuples of different places, each joined to the next one, that change their hue at every place."""
+"""Paths: tuples of different places, each joined to the next one, that change their hue at every place.
+
+Each is kept as a triple: the path, the hue by which it came to its last place (None if it has not gone yet), and the
+mask of the places to which it may not go any more.
+"""
 
 
-def hues_between(net):
+def hues_between(size, roads):
     """For each place the list of the hues of its roads to all places, None where there is no road."""
-    return [[net.hue(one, two) for two in range(net.size)] for one in range(net.size)]
+    hues = [[None] * size for _ in range(size)]
+    for low, high, hue in roads:
+        hues[low][high] = hue
+        hues[high][low] = hue
+    return hues
 
 
-def longer(hues, paths):
+def roads_ahead(size, roads):
+    """For each place the ascending list of the triples (other place, hue, mask of it) of its roads."""
+    ahead = [[] for _ in range(size)]
+    # Roads are ascending, and those from lesser places come first: nothing needs to be sorted.
+    for low, high, hue in roads:
+        ahead[low].append((high, hue, 1 << high))
+        ahead[high].append((low, hue, 1 << low))
+    return ahead
+
+
+def longer(ahead, paths):
     """The paths that go one place further than these ones; they are ascending if these are as long and ascending."""
-    return [(*path, place) for path in paths for place in places_behind(hues, path)]
-
-
-def places_behind(hues, path):
-    """The places to which a path can go on, ascending."""
-    came = hues[path[-2]][path[-1]] if len(path) > 1 else None
-    ahead = hues[path[-1]]
-    return [place for place, hue in enumerate(ahead) if hue is not None and hue != came and place not in path]
+    return [((*path, place), hue, taken | mask) for path, came, taken in paths
+            for place, hue, mask in ahead[path[-1]] if hue != came and taken & mask == 0]

@@ -1,30 +1,31 @@
 """Rounds: whether there is one, all of them, and what they have in common."""
 
-from hueturns.cores import core
+from hueturns.cores import core_mask
 from hueturns.errors import NoRoad
 from hueturns.kinds import need_at_most, need_place, need_places, need_two_places
 from hueturns.limits import MOST_LISTED
+from hueturns.masks import places_of
 from hueturns.nets import need_net, pair_of
-from hueturns.paths import hues_between, longer
+from hueturns.paths import hues_between, longer, roads_ahead
 
 
 def is_round(net, places):
     """Whether these places are a round, beginning anywhere, either way round."""
     need_net(net)
     need_places(places, net.size)
-    return is_ring(hues_between(net), places)
+    return is_ring(hues_between(net.size, net.roads), places)
 
 
 def has_round(net):
     """Whether there is a round."""
-    # There is one exactly if the core is not empty.
-    return len(core(net)) > 0
+    need_net(net)
+    return has_round_by(net.size, net.roads)
 
 
 def first_round(net):
     """The first round, None if there is none."""
     need_net(net)
-    found = told_rounds(net, True)
+    found = told_rounds(net.size, net.roads, True)
     return found[0] if found else None
 
 
@@ -32,7 +33,7 @@ def rounds(net):
     """The tuple of all rounds, those of few places first."""
     need_net(net)
     need_at_most(net.size, MOST_LISTED)
-    return tuple(told_rounds(net, False))
+    return tuple(told_rounds(net.size, net.roads, False))
 
 
 def count_rounds(net):
@@ -78,21 +79,27 @@ def packed(net):
     return most_apart(list(firsts.values()))
 
 
-def told_rounds(net, only_shortest):
-    """All rounds in their order, or only those with the fewest places."""
-    hues = hues_between(net)
+def has_round_by(size, roads):
+    """Whether there is a round by these roads."""
+    # There is one exactly if the core is not empty.
+    return core_mask(size, roads) != 0
+
+
+def told_rounds(size, roads, only_shortest):
+    """All rounds by these roads in their order, or only those with the fewest places."""
+    left = core_mask(size, roads)
+    # All rounds lie in the core.
+    inner = [road for road in roads if (left >> road[0]) & (left >> road[1]) & 1 == 1]
+    hues = hues_between(size, inner)
+    ahead = roads_ahead(size, inner)
+    # Rounds are told with their least place first: so paths do not go to lesser ones.
+    paths = longer(ahead, [((place,), None, (2 << place) - 1) for place in places_of(left)])
     found = []
-    # All rounds lie in the core. Paths begin with their least place, as rounds are told.
-    paths = [(place,) for place in core(net)]
     while paths and not (only_shortest and found):
-        found.extend([path for path in paths if is_told_round(hues, path)])
-        paths = [path for path in longer(hues, paths) if path[-1] > path[0]]
+        found.extend([path for path, came, _ in paths if path[1] < path[-1]
+                      and hues[path[0]][path[-1]] not in (None, came, hues[path[0]][path[1]])])
+        paths = longer(ahead, paths)
     return found
-
-
-def is_told_round(hues, path):
-    """Whether a path that begins with its least place is a round as it is told."""
-    return len(path) >= 3 and path[1] < path[-1] and is_ring(hues, path)
 
 
 def is_ring(hues, places):

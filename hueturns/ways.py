@@ -3,7 +3,7 @@
 from hueturns.kinds import need_at_most, need_hue, need_place, need_two_places
 from hueturns.limits import MOST_LISTED
 from hueturns.nets import need_net
-from hueturns.paths import hues_between, longer
+from hueturns.paths import longer, roads_ahead
 
 
 def ways(net, start, goal, first=None, last=None):
@@ -24,13 +24,13 @@ def far(net, start):
     """The tuple of how many roads the shortest ways to each place have, None where there is none."""
     need_net(net)
     need_place(start, net.size)
-    hues = hues_between(net)
+    ahead = roads_ahead(net.size, net.roads)
     numbers = {}
-    paths = [(start,)]
+    paths = [no_road(start)]
     while paths and len(numbers) < net.size:
-        for path in paths:
+        for path, _, _ in paths:
             numbers.setdefault(path[-1], len(path) - 1)
-        paths = longer(hues, paths)
+        paths = longer(ahead, paths)
     return tuple([numbers.get(place) for place in range(net.size)])
 
 
@@ -53,16 +53,16 @@ def need_way(net, start, goal, first, last):
 
 def found_ways(net, start, goal, ends, only_shortest):
     """All ways in their order that have these first and last hues, or only those of them with the fewest places."""
-    hues = hues_between(net)
+    first, last = ends
+    ahead = roads_ahead(net.size, net.roads)
     found = []
-    paths = [(start,)]
+    paths = [step for step in longer(ahead, [no_road(start)]) if first in (None, step[1])]
     while paths and not (only_shortest and found):
-        found.extend([path for path in paths if path[-1] == goal and has_ends(hues, path, ends)])
-        paths = longer(hues, [path for path in paths if path[-1] != goal])
+        found.extend([path for path, came, _ in paths if path[-1] == goal and last in (None, came)])
+        paths = longer(ahead, [step for step in paths if step[0][-1] != goal])
     return found
 
 
-def has_ends(hues, path, ends):
-    """Whether the first and the last road of a path have these hues; None stands for any."""
-    first, last = ends
-    return first in (None, hues[path[0]][path[1]]) and last in (None, hues[path[-2]][path[-1]])
+def no_road(start):
+    """The path that has not gone yet."""
+    return ((start,), None, 1 << start)
