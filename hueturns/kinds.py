@@ -1,6 +1,6 @@
 """Whether values are of the kinds that the package speaks of, and the errors where they are not."""
 
-from hueturns.errors import InvalidHue, InvalidNumber, InvalidPlace, InvalidPlaces, TooGreat
+from hueturns.errors import InvalidHue, InvalidHues, InvalidNumber, InvalidPlace, InvalidPlaces, TooGreat
 from hueturns.limits import MOST_PLACES
 
 HUES = "abcdef"
@@ -32,6 +32,13 @@ def is_hue(value):
     return isinstance(value, str) and len(value) == 1 and value in HUES
 
 
+def are_hues(value, most):
+    """Whether a value is an ascending string of one to so many different hues."""
+    if not isinstance(value, str) or not 1 <= len(value) <= most:
+        return False
+    return all([is_hue(hue) for hue in value]) and sorted(set(value)) == list(value)
+
+
 def need_place(place, size):
     """Raises InvalidPlace for what is no place of the nets of this size."""
     if not is_place(place, size):
@@ -50,6 +57,12 @@ def need_hue(hue):
     """Raises InvalidHue for what is no hue."""
     if not is_hue(hue):
         raise InvalidHue(hue)
+
+
+def need_hues(hues, most):
+    """Raises InvalidHues for what is no ascending string of one to so many different hues."""
+    if not are_hues(hues, most):
+        raise InvalidHues(hues)
 
 
 def need_number(number, most):

@@ -70,14 +70,14 @@ class Net:
         """The net in which the road between both places, old or new, has this hue."""
         need_two_places(one, two, self._size)
         need_hue(hue)
-        return Net(self._size, tuple(sorted([*roads_besides(self, one, two), road_of(one, two, hue)])))
+        return Net(self._size, tuple(sorted([*roads_without(self, [pair_of(one, two)]), road_of(one, two, hue)])))
 
     def closed(self, one, two):
         """The net without the road between both places."""
         need_two_places(one, two, self._size)
         if self.hue(one, two) is None:
             raise NoRoad()
-        return Net(self._size, tuple(roads_besides(self, one, two)))
+        return Net(self._size, tuple(roads_without(self, [pair_of(one, two)])))
 
     def swapped(self, one, two):
         """The net in which both places have changed their numbers."""
@@ -153,9 +153,9 @@ def road_of(one, two, hue):
     return (low, high, hue)
 
 
-def roads_besides(net, one, two):
-    """The roads of a net but for the one between both places."""
-    return [road for road in net.roads if road[:2] != pair_of(one, two)]
+def roads_without(net, pairs):
+    """The list of the roads of a net but for those between these pairs of places."""
+    return [road for road in net.roads if road[:2] not in pairs]
 
 
 def alike(net, other):
