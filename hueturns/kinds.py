@@ -1,9 +1,12 @@
 """Whether values are of the kinds that the package speaks of, and the errors where they are not."""
 
-from hueturns.errors import InvalidHue, InvalidHues, InvalidNumber, InvalidPlace, InvalidPlaces, TooGreat
+from hueturns.errors import (InvalidHue, InvalidHues, InvalidName, InvalidNumber, InvalidPlace, InvalidPlaces,
+                             TooGreat)
 from hueturns.limits import MOST_PLACES
 
 HUES = "abcdef"
+LETTERS = "abcdefghijklmnopqrstuvwxyz"
+MOST_LETTERS = 8
 
 
 def is_integer(value):
@@ -24,6 +27,23 @@ def is_size(value):
 def is_place(value, size):
     """Whether a value is a place of the nets of this size."""
     return is_integer_from(value, 0, size - 1)
+
+
+def are_places(value, size):
+    """Whether a value is a tuple of places of the nets of this size."""
+    return isinstance(value, tuple) and all([is_place(place, size) for place in value])
+
+
+def are_two_places(one, two, size):
+    """Whether both values are places of the nets of this size, and different."""
+    return is_place(one, size) and is_place(two, size) and one != two
+
+
+def is_name(value):
+    """Whether a value is a name."""
+    if not isinstance(value, str) or not 1 <= len(value) <= MOST_LETTERS:
+        return False
+    return all([letter in LETTERS for letter in value])
 
 
 def is_hue(value):
@@ -63,6 +83,12 @@ def need_hues(hues, most):
     """Raises InvalidHues for what is no ascending string of one to so many different hues."""
     if not are_hues(hues, most):
         raise InvalidHues(hues)
+
+
+def need_name(name):
+    """Raises InvalidName for what is no name."""
+    if not is_name(name):
+        raise InvalidName(name)
 
 
 def need_number(number, most):
