@@ -115,7 +115,7 @@ def turnings_of(ring, hues, most):
 
 def first_clash(ring, painted):
     """The first index in a ring whose road has the same hue as the road before it, None if there is none."""
-    hues = [hue for _, _, hue in roads_with(ring, painted)]
+    hues = [road[2] for road in roads_with(ring, painted)]
     for at, hue in enumerate(hues):
         if hue == hues[at - 1]:
             return at

@@ -4,10 +4,13 @@ from hueturns.kinds import need_at_most, need_number, need_place
 from hueturns.limits import MOST_NUMBER, MOST_WALKED
 from hueturns.nets import need_net
 
-# How a walk can go on depends on its stand alone: the pair of the place where it is and the hue by which it came there,
-# None if it has not gone yet. Some stands together are one integer, in which the bit n is set for the stand n.
+# How a walk can go on depends on its stand alone: the place where it is and the hue by which it came there. Some stands
+# together are one integer that has one bit for each stand, six for each place: so those at a place are side by side.
 # A turn leads from a stand at its place to this same stand: so its first road has another hue than its last one.
 
+HUE_BITS = {"a": 1, "b": 2, "c": 4, "d": 8, "e": 16, "f": 32}
+WIDTH = 6
+ALL_HUES = 63
 MOST_NUMBERED = 6
 
 
@@ -22,30 +25,34 @@ def count_walks(net, start, goal, many):
     """How many walks of just so many roads there are."""
     need_ends(net, start, goal)
     need_number(many, MOST_WALKED)
-    counts = {(start, None): 1}
-    for _ in range(many):
-        counts = counts_behind(net, counts)
-    return sum([count for (place, _), count in counts.items() if place == goal])
+    if many == 0:
+        return 1 if start == goal else 0
+    firsts, moves = moves_by(net)
+    counts = {stand: 1 for stand in single_stands(firsts[start])}
+    ahead = {stand: single_stands(further) for stand, further in moves.items()}
+    for _ in range(many - 1):
+        counts = counts_behind(ahead, counts)
+    return sum([count for stand, count in counts.items() if stand & stands_at(goal) != 0])
 
 
 def first_walk(net, start, goal, many):
     """The first walk of just so many roads, None if there is none."""
     need_ends(net, start, goal)
     need_number(many, MOST_WALKED)
-    stands = [(start, None), *arrivals(net)]
-    moves = moves_between(net, stands)
-    # From the stands at index n the goal can be reached by n roads more.
-    hopeful = [bits_at(stands, goal)]
-    for _ in range(many):
-        hopeful.append(ahead_of(moves, hopeful[-1]))
-    if not has_bit(hopeful[many], 0):
+    if goal not in places_after(net, start, many):
         return None
+    firsts, moves = moves_by(net)
+    # From the stands at index n the goal can be reached by n roads more.
+    hopeful = [stands_at(goal)]
+    for _ in range(many - 1):
+        hopeful.append(stands_behind(moves, hopeful[-1]))
     walk = [start]
-    at = 0
+    ahead = firsts[start]
     for left in range(many - 1, -1, -1):
-        # Stands are ascending, and no two of them to which one can go are at the same place.
-        at = least_bit(moves[at] & hopeful[left])
-        walk.append(stands[at][0])
+        # No two of the stands to which one can go are at the same place: so the first one is at the least place.
+        stand = first_stand(ahead & hopeful[left])
+        walk.append(place_of(stand))
+        ahead = moves[stand]
     return tuple(walk)
 
 
@@ -53,9 +60,9 @@ def walk_numbers(net, start, goal):
     """The triple (numbers, begin, period) that tells of which numbers of roads there are walks."""
     need_ends(net, start, goal)
     need_at_most(net.size, MOST_NUMBERED)
-    stands = [(start, None), *arrivals(net)]
-    told, begin = told_till_repeated(moves_between(net, stands), [1], [bits_at(stands, goal)])
-    return as_triple(told, begin)
+    firsts, moves = moves_by(net)
+    told, begin = told_till_repeated(moves, [firsts[start]], [stands_at(goal)])
+    return as_triple([start == goal, *told], begin + 1)
 
 
 def reach(net, start, many):
@@ -71,10 +78,11 @@ def has_turn(net, place, many):
     need_net(net)
     need_place(place, net.size)
     need_number(many, MOST_NUMBER)
-    stands = arrivals(net)
-    homes = single_bits_at(stands, place)
-    # No road at all leads to the same stand, too, but is no turn. (One road never does.)
-    return many > 0 and any_meets(moved_far(moves_between(net, stands), homes, many), homes)
+    if many == 0:
+        return False
+    _, moves = moves_by(net)
+    # One road alone never leads to the same stand.
+    return any([moved_far(moves, home, many) & home != 0 for home in homes_at(moves, place)])
 
 
 def turn_numbers(net, place):
@@ -82,11 +90,9 @@ def turn_numbers(net, place):
     need_net(net)
     need_place(place, net.size)
     need_at_most(net.size, MOST_NUMBERED)
-    stands = arrivals(net)
-    moves = moves_between(net, stands)
-    homes = single_bits_at(stands, place)
-    told, begin = told_till_repeated(moves, [moved(moves, bits) for bits in homes], homes)
-    # It is told from one road on, as no road at all is no turn, though it leads to the same stand.
+    _, moves = moves_by(net)
+    homes = homes_at(moves, place)
+    told, begin = told_till_repeated(moves, [moves[home] for home in homes], homes)
     return as_triple([False, *told], begin + 1)
 
 
@@ -97,86 +103,98 @@ def need_ends(net, start, goal):
     need_place(goal, net.size)
 
 
-def arrivals(net):
-    """The ascending list of all stands to which roads lead."""
-    return sorted({(place, hue) for place in range(net.size) for _, hue in net.roads_at(place)})
+def moves_by(net):
+    """For each place the stands to which its roads lead, and for each stand those to which one road more leads."""
+    firsts = [0] * net.size
+    by_same = {}
+    for low, high, hue in net.roads:
+        at_low = HUE_BITS[hue] << (WIDTH * low)
+        at_high = HUE_BITS[hue] << (WIDTH * high)
+        firsts[low] = firsts[low] | at_high
+        firsts[high] = firsts[high] | at_low
+        # Who came by this hue does not go on by it.
+        by_same[at_low] = by_same.get(at_low, 0) | at_high
+        by_same[at_high] = by_same.get(at_high, 0) | at_low
+    return firsts, {stand: firsts[place_of(stand)] ^ same for stand, same in by_same.items()}
 
 
-def moves_between(net, stands):
-    """For each stand the ones to which one road more leads."""
-    numbers = {stand: number for number, stand in enumerate(stands)}
-    moves = []
-    for place, came in stands:
-        ahead = [numbers[(other, hue)] for other, hue in net.roads_at(place) if hue != came]
-        moves.append(sum([1 << number for number in ahead]))
-    return moves
+def place_of(stand):
+    """The place of a single stand."""
+    return (stand.bit_length() - 1) // WIDTH
 
 
-def single_bits_at(stands, place):
-    """The list of the stands at a place, each by itself."""
-    return [1 << number for number, stand in enumerate(stands) if stand[0] == place]
+def stands_at(place):
+    """All stands that there can be at a place."""
+    return ALL_HUES << (WIDTH * place)
 
 
-def bits_at(stands, place):
-    """All stands at a place together."""
-    return sum(single_bits_at(stands, place))
+def first_stand(stands):
+    """The first one of some stands."""
+    return stands & -stands
 
 
-def has_bit(bits, number):
-    """Whether a stand is one of some stands."""
-    return (bits >> number) & 1 == 1
+def single_stands(stands):
+    """The ascending list of the single ones of some stands."""
+    singles = []
+    left = stands
+    while left != 0:
+        stand = first_stand(left)
+        singles.append(stand)
+        left = left ^ stand
+    return singles
 
 
-def least_bit(bits):
-    """The number of the first one of some stands."""
-    return (bits & -bits).bit_length() - 1
+def homes_at(moves, place):
+    """The list of the single stands at a place to which roads lead."""
+    return [stand for stand in moves if place_of(stand) == place]
 
 
-def moved(moves, bits):
-    """The stands to which these moves lead from some stands."""
+def moved(moves, stands):
+    """The stands to which one road more leads from some stands."""
     reached = 0
-    for number, ahead in enumerate(moves):
-        if has_bit(bits, number):
-            reached |= ahead
+    left = stands
+    while left != 0:
+        stand = left & -left
+        reached = reached | moves[stand]
+        left = left ^ stand
     return reached
 
 
-def ahead_of(moves, bits):
-    """The stands from which one of these moves leads to some stands."""
-    return sum([1 << number for number, ahead in enumerate(moves) if ahead & bits != 0])
+def stands_behind(moves, stands):
+    """The stands from which one road more leads to some stands."""
+    return sum([stand for stand, ahead in moves.items() if ahead & stands != 0])
 
 
-def moved_far(moves, groups, many):
-    """For each group of stands the ones to which so many of these moves lead."""
-    left = many
-    while left > 0:
-        if left % 2 == 1:
-            groups = [moved(moves, bits) for bits in groups]
-        # From now on one move is what two were: so this takes as many steps as `many` has binary digits.
-        moves = [moved(moves, bits) for bits in moves]
-        left //= 2
-    return groups
-
-
-def any_meets(groups, homes):
-    """Whether any group of stands has one in common with the one at its index in `homes`."""
-    return any([bits & home != 0 for bits, home in zip(groups, homes)])
+def moved_far(moves, stands, many):
+    """The stands to which so many roads more lead from some stands."""
+    # What comes once comes again and again, and it does so after a few roads: then what is left of the number tells.
+    numbers = {}
+    order = []
+    while stands not in numbers and len(order) < many:
+        numbers[stands] = len(order)
+        order.append(stands)
+        stands = moved(moves, stands)
+    if len(order) == many:
+        return stands
+    begin = numbers[stands]
+    return order[begin + (many - begin) % (len(order) - begin)]
 
 
 def places_after(net, start, many):
     """The ascending tuple of all places to which walks of just so many roads lead."""
-    stands = [(start, None), *arrivals(net)]
-    bits = moved_far(moves_between(net, stands), [1], many)[0]
-    return tuple(sorted({stand[0] for number, stand in enumerate(stands) if has_bit(bits, number)}))
+    if many == 0:
+        return (start,)
+    firsts, moves = moves_by(net)
+    stands = moved_far(moves, firsts[start], many - 1)
+    return tuple([place for place in range(net.size) if stands & stands_at(place) != 0])
 
 
-def counts_behind(net, counts):
-    """How many walks with one road more stand where, from how many stand where."""
+def counts_behind(ahead, counts):
+    """How many walks with one road more come to which stand, from how many come to which."""
     behind = {}
-    for (place, came), count in counts.items():
-        for other, hue in net.roads_at(place):
-            if hue != came:
-                behind[(other, hue)] = behind.get((other, hue), 0) + count
+    for stand, count in counts.items():
+        for further in ahead[stand]:
+            behind[further] = behind.get(further, 0) + count
     return behind
 
 
@@ -186,8 +204,8 @@ def told_till_repeated(moves, groups, homes):
     told = []
     while tuple(groups) not in numbers:
         numbers[tuple(groups)] = len(told)
-        told.append(any_meets(groups, homes))
-        groups = [moved(moves, bits) for bits in groups]
+        told.append(any([stands & home != 0 for stands, home in zip(groups, homes)]))
+        groups = [moved(moves, stands) for stands in groups]
     return told, numbers[tuple(groups)]
 
 

@@ -28,8 +28,8 @@ def far(net, start):
     numbers = {}
     paths = [no_road(start)]
     while paths and len(numbers) < net.size:
-        for path, _, _ in paths:
-            numbers.setdefault(path[-1], len(path) - 1)
+        for step in paths:
+            numbers.setdefault(step[0][-1], len(step[0]) - 1)
         paths = longer(ahead, paths)
     return tuple([numbers.get(place) for place in range(net.size)])
 
