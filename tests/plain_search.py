@@ -51,6 +51,14 @@ def is_plain_in(net, place, places):
                for piece in pieces_of(net, others))
 
 
+def core_of(net):
+    """The core: what is left when plain places are taken off as long as there are any."""
+    left = list(range(net.size))
+    while any(is_plain_in(net, place, left) for place in left):
+        left = [place for place in left if place != [each for each in left if is_plain_in(net, each, left)][-1]]
+    return tuple(left)
+
+
 def is_path(net, places):
     """Whether each of these places is joined to the next one, with another hue than to the one before it."""
     hues = hues_of(net)
@@ -86,6 +94,12 @@ def first_ring(net):
     hues = hues_of(net)
     found = [ring for place in range(net.size) for ring in rings_behind(hues, net.size, (place,))]
     return min(found, key=lambda ring: (len(ring), ring), default=None)
+
+
+def has_ring(net):
+    """Whether there is a round; quick enough for many nets of seven places."""
+    hues = hues_of(net)
+    return any(rings_behind(hues, net.size, (place,)) for place in range(net.size))
 
 
 def all_ways(net, start, goal):

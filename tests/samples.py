@@ -24,6 +24,10 @@ NO_TUPLES = (True, False, None, 0, 1, "", "012", "3:", b"", [], [0, 1], [(0, 1, 
 NO_HUES = (True, False, None, 0, 1, "", "g", "A", "F", "z", " ", "ab", "aa", "a ", " a", "abcdef", "-", "0", b"a",
            ("a",), ["a"], {"a": 1}, {"a"}, object(), THREE, str)
 
+# What is a net nowhere, though some of it tells of one.
+NO_NETS = tuple(value for value in (*NO_INTEGERS, *NO_TUPLES, 3, str(KITE), repr(KITE), KITE.roads, (5, KITE.roads), Net)
+                if not isinstance(value, Net))
+
 
 def every_pair(size):
     """All pairs of places, the lesser one first."""

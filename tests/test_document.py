@@ -2,14 +2,21 @@
 
 import unittest
 
+from hueturns.books import Book
+from hueturns.certificates import certify_core, certify_round, certify_walk, certify_way
+from hueturns.changing import least_closings, least_paintings, least_turnings, spare_roads
+from hueturns.checker import accepts
+from hueturns.console import Console
 from hueturns.cores import core, core_pieces, hues_to, is_plain, order_of
-from hueturns.errors import InvalidText
+from hueturns.desks import Desk
+from hueturns.errors import Broken, InvalidLine, InvalidText, NoRoad
 from hueturns.nets import Net, alike
 from hueturns.rounds import (count_rounds, first_round, has_round, in_all, is_round, key_places, packed, rounds,
                              rounds_at, rounds_by)
+from hueturns.unknown import best_pair, chances, hues_against, hues_for, sure_places, verdict
 from hueturns.walks import count_walks, first_walk, has_turn, has_walk, reach, turn_numbers, walk_numbers
 from hueturns.ways import apart, far, first_way, ways
-from tests.samples import DULL, FULL, KITE, PATH, SQUARE, THREE, check_given
+from tests.samples import DULL, FULL, KITE, PATH, SQUARE, THREE, check_given, check_index, raised
 
 
 class TestNets(unittest.TestCase):
@@ -92,6 +99,83 @@ class TestWalks(unittest.TestCase):
                  has_turn(DULL, 0, 3), has_turn(DULL, 1, 3), turn_numbers(SQUARE, 0), turn_numbers(THREE, 2)]
         printed = "[(1, 3), (2,), (), True, False, False, ((4,), 1, 4), ((3,), 1, 3)]"
         self.assertEqual(repr(found), printed)
+
+
+class TestUnknown(unittest.TestCase):
+    def test_told(self):
+        found = [chances(DULL, ((0, 1),), "abc"), verdict(DULL, ((0, 1),), "abc"), verdict(PATH, ((0, 1),), "ab"),
+                 verdict(KITE, ((3, 4),), "ab"), chances(SQUARE, (), "a"), sure_places(KITE, ((3, 4),), "ab")]
+        self.assertEqual(repr(found), "[(1, 3), 'perhaps', 'never', 'surely', (1, 1), (0, 1, 2, 3)]")
+
+    def test_asked(self):
+        found = [chances(DULL, ((0, 1), (0, 2)), "abc"), best_pair(DULL, ((0, 1), (0, 2)), "abc"),
+                 best_pair(DULL, (), "a"), sure_places(DULL, ((0, 1),), "abc"), hues_for(DULL, ((0, 1),), "abc"),
+                 hues_for(PATH, ((0, 1),), "ab"), hues_against(KITE, ((3, 4),), "ab"), hues_against(PATH, (), "ab")]
+        self.assertEqual(repr(found), "[(2, 9), (0, 1), None, (), 'c', None, None, '']")
+
+
+class TestChanging(unittest.TestCase):
+    def test_told(self):
+        found = [least_closings(SQUARE), least_closings(DULL), least_paintings(SQUARE, "ab"), spare_roads(KITE),
+                 spare_roads(DULL)]
+        printed = ("[(((0, 1),), ((0, 3),), ((1, 2),), ((2, 3),)), ((),), (((0, 1, 'b'),), ((0, 3, 'a'),), "
+                   "((1, 2, 'a'),), ((2, 3, 'b'),)), ((3, 4),), ((0, 1), (0, 2), (1, 2))]")
+        self.assertEqual(repr(found), printed)
+
+    def test_turnings(self):
+        found = [least_turnings(DULL, "abc"), least_turnings(DULL, "ab"), least_turnings(THREE, "a")]
+        self.assertEqual(repr(found), "[(((0, 1, 'c'),), ((0, 2, 'c'),)), None, ((),)]")
+
+
+class TestDesks(unittest.TestCase):
+    def test_led(self):
+        desk = Desk(DULL)
+        found = [desk.paint(2, 0, "c"), desk.core, desk.grow(), desk.paint(3, 1, "a"), str(desk.net), desk.core,
+                 desk.drop(), desk.net == THREE, desk.changes, desk.undo(), len(desk.net)]
+        self.assertEqual(repr(found), "[None, (0, 1, 2), None, None, '4: 0-1a 0-2c 1-2b 1-3a', (0, 1, 2), None, True, "
+                                      "4, None, 4]")
+
+    def test_no_road(self):
+        raised(self, NoRoad, Desk(PATH).close, 0, 2)
+
+
+class TestBooks(unittest.TestCase):
+    def test_deeds(self):
+        book = Book()
+        found = [book.do_all(("put", "main", SQUARE), ("wish", ("round", "main")), ("wish", ("walk", "main", 0, 2, 2))),
+                 book.names, book.changes]
+        self.assertEqual(repr(found), "[3, ('main',), 3]")
+        check_index(self, Broken, 0, book.do_all, ("put", "main", FULL), ("put", "main", PATH))
+
+
+class TestCertificates(unittest.TestCase):
+    def test_told(self):
+        found = [certify_round(THREE)[0], certify_round(DULL)[0], certify_core(KITE), certify_way(PATH, 0, 3),
+                 certify_way(PATH, 1, 3), certify_walk(SQUARE, 0, 0, 6)]
+        printed = ("[('round', '3: 0-1a 0-2c 1-2b'), ('no round', '3: 0-1a 0-2a 1-2b'), "
+                   "(('core', '5: 0-1a 0-3b 1-2b 2-3a 3-4a', (0, 1, 2, 3)), (4,)), "
+                   "(('no way', '4: 0-1a 1-2a 2-3b', 0, 3), ()), (('way', '4: 0-1a 1-2a 2-3b', 1, 3), (1, 2, 3)), "
+                   "(('no walk', '4: 0-1a 0-3b 1-2b 2-3a', 0, 0, 6), ())]")
+        self.assertEqual(repr(found), printed)
+
+    def test_accepted(self):
+        found = [accepts(("round", "4: 0-1a 0-3b 1-2b 2-3a"), (3, 2, 1, 0)),
+                 accepts(("no round", "3: 0-1a 0-2a 1-2b"), (0, 2, 1)),
+                 accepts(("no round", "3: 0-1a 0-2a 1-2b"), (1, 0, 2)),
+                 accepts(("core", "3: 0-1a 0-2a 1-2b", ()), (0, 1, 2)),
+                 accepts(("walk", "4: 0-1a 0-3b 1-2b 2-3a", 0, 0, 4), (0, 3, 2, 1, 0))]
+        self.assertEqual(repr(found), "[True, True, False, True, True]")
+
+
+class TestConsole(unittest.TestCase):
+    def test_said(self):
+        console = Console(DULL)
+        lines = ("round", "order", "paint 0 2 c", "round", "core", "rounds", "way 0 1", "walk 0 0 3", "close 1 0",
+                 "way 0 1", "show", "way 0 3")
+        printed = ("['none', '0 1 2', 'ok', '0 1 2', '0 1 2', '1', '0 1', 'yes', 'ok', '0 2 1', '3: 0-2c 1-2b', "
+                   "'InvalidPlace']")
+        self.assertEqual(repr([console.say(line) for line in lines]), printed)
+        check_given(self, InvalidLine, "paint 0 1 g", console.say, "paint 0 1 g")
 
 
 if __name__ == "__main__":

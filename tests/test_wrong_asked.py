@@ -10,10 +10,9 @@ from hueturns.rounds import (count_rounds, first_round, has_round, in_all, is_ro
                              rounds_at, rounds_by)
 from hueturns.walks import count_walks, first_walk, has_turn, has_walk, reach, turn_numbers, walk_numbers
 from hueturns.ways import apart, far, first_way, ways
-from tests.samples import (KITE, LONE, NO_HUES, NO_INTEGERS, NO_TUPLES, check_given, check_index, every_pair, raised)
+from tests.samples import (KITE, LONE, NO_HUES, NO_INTEGERS, NO_NETS, NO_TUPLES, check_given, check_index, every_pair,
+                           raised)
 
-NO_NETS = tuple(value for value in (*NO_INTEGERS, *NO_TUPLES, 3, str(KITE), repr(KITE), KITE.roads, (5, KITE.roads), Net)
-                if not isinstance(value, Net))
 # All right arguments are those of a net of five places, with the place 3 first and the place 4 second.
 NO_PLACES = (*NO_INTEGERS, -1, 5, 6, 9, 10 ** 30, 10 ** 79, -(10 ** 30))
 NO_GOALS = (*NO_PLACES, 3)
