@@ -7,7 +7,7 @@ import unittest
 from hueturns.console import Console
 from hueturns.errors import InvalidLine, NotANet
 from hueturns.nets import Net
-from tests.plain_search import all_nets, all_rounds, all_ways, core_of, stands_after
+from tests.plain_search import all_nets, all_rounds, all_ways, core_of, is_plain_in, stands_after
 from tests.samples import (DULL, EMPTY_NINE, FULL, KITE, LONE, NO_INTEGERS, NO_NETS, NO_TUPLES, PATH, SQUARE, THREE,
                            check_given, every_pair, some_net, some_nets)
 
@@ -42,7 +42,6 @@ def in_words(places):
 
 def least_order(net):
     """The order in which always the least plain place is taken off."""
-    from tests.plain_search import is_plain_in
     left, order = list(range(net.size)), []
     while any(is_plain_in(net, place, left) for place in left):
         place = min(each for each in left if is_plain_in(net, each, left))
@@ -180,7 +179,7 @@ class TestWrong(unittest.TestCase):
     def test_spaces_and_newlines(self):
         self.check([wrong for line in RIGHT for wrong in (
             line + " ", " " + line, line + "\n", "\n" + line, line.replace(" ", "  ", 1) + "  ", line.upper(),
-            line.title(), line + " 0 0 0 0", line.replace(" ", "\n") + "\n", line + "." , line * 2)])
+            line.title(), line + " 0 0 0 0", line.replace(" ", "\n") + "\n", line + ".", line * 2)])
 
     def test_long_lines(self):
         self.check(["a" * 4000, " " * 4000, "show " * 800, "walk 0 1 " + "0" * 3990, "round" * 800])

@@ -26,6 +26,9 @@ METHODS = set("""append clear copy count endswith extend find get index insert i
     isupper items join keys ljust lower lstrip partition pop remove replace reverse rfind rjust rpartition rsplit
     rstrip setdefault split splitlines startswith strip update upper values zfill bit_length add discard
     __init__""".split())
+# Operators, and what is run like them, that may change nothing.
+SIGNS = ("__eq__", "__len__", "__str__", "__repr__", "__bool__", "__contains__", "__getitem__", "__iter__")
+CHANGING = ("append", "pop", "extend", "insert", "remove", "clear", "update", "setdefault", "reverse", "add", "discard")
 # What goes through the ranges, zips and views that it is given.
 TAKERS = ("list", "tuple", "dict", "sorted", "sum", "any", "all", "enumerate", "zip", "min", "max")
 BARRED_IN_FILES = re.compile(r"\b(type|typing|enum|Enum|Generic|Protocol|ABC|namedtuple|NamedTuple)\b"
@@ -68,11 +71,53 @@ def is_walked(call):
     return isinstance(call.func, ast.Name) and call.func.id in ("range", "zip", "enumerate", "reversed")
 
 
+def functions_of(tree):
+    """All functions and methods of a file."""
+    return [node for node in ast.walk(tree) if isinstance(node, ast.FunctionDef)]
+
+
+def called_in(function):
+    """The names of all that a function calls."""
+    calls = [node.func for node in ast.walk(function) if isinstance(node, ast.Call)]
+    return {each.id if isinstance(each, ast.Name) else each.attr for each in calls
+            if isinstance(each, (ast.Name, ast.Attribute))}
+
+
+def run_by_signs():
+    """The functions that properties and operators run, themselves among them, each with the name of its file."""
+    every = [(name, each) for name, _, tree in trees() for each in functions_of(tree)]
+    found = [(name, each) for name, each in every
+             if each.name in SIGNS or [ast.unparse(one) for one in each.decorator_list] == ["property"]]
+    for _, function in found:
+        names = called_in(function)
+        # This list is gone through and grows: so what is run by what is run is looked at, too.
+        found.extend([row for row in every if row[1].name in names and row not in found])
+    return found
+
+
+def made_here(function):
+    """The names to which a function assigns nothing but lists and dicts that it makes."""
+    assigned = [node for node in ast.walk(function) if isinstance(node, ast.Assign)]
+    kinds = (ast.List, ast.Dict, ast.ListComp, ast.DictComp)
+    names = {target.id for node in assigned for target in node.targets if isinstance(target, ast.Name)}
+    return {name for name in names if all(
+        isinstance(node.value, kinds) for node in assigned for target in node.targets
+        if isinstance(target, ast.Name) and target.id == name)}
+
+
+def base_of(node):
+    """The name that an item, or an item of an item, is one of."""
+    while isinstance(node, ast.Subscript):
+        node = node.value
+    return node.id if isinstance(node, ast.Name) else None
+
+
 class TestFiles(unittest.TestCase):
     def test_only_files_of_python(self):
         others = [each.name for each in FOLDER.iterdir() if each not in FILES and each.name != "__pycache__"]
         self.assertEqual(others, [])
-        listed = {"__init__", "limits", "errors", "nets", "cores", "rounds", "ways", "walks"}
+        listed = {"__init__", "limits", "errors", "nets", "cores", "rounds", "ways", "walks", "unknown", "changing",
+                  "desks", "books", "checker", "certificates", "console"}
         self.assertLessEqual(listed, {file.stem for file in FILES})
 
     def test_size_and_characters(self):
@@ -234,6 +279,59 @@ class TestRows(unittest.TestCase):
                         self.assertEqual([each for each in passed if isinstance(each, ast.Call) and is_walked(each)], [])
                         self.assertEqual([each.id for each in passed if isinstance(each, ast.Name) and each.id in kept],
                                          [])
+
+    def test_properties_and_operators_change_nothing(self):
+        names = {function.name for _, function in run_by_signs()}
+        self.assertLessEqual({"net", "core_mask", "near_by_hue", "reached_from", "is_name"}, names)
+        for name, function in run_by_signs():
+            if function.name != "__init__":
+                made = made_here(function)
+                parameters = {each.arg for each in function.args.args}
+                for node in ast.walk(function):
+                    with self.subTest(name=name, function=function.name, line=getattr(node, "lineno", None)):
+                        self.assertFalse(isinstance(node, ast.Attribute) and not isinstance(node.ctx, ast.Load))
+                        if isinstance(node, ast.Subscript) and not isinstance(node.ctx, ast.Load):
+                            self.assertIn(base_of(node), made)
+                        if isinstance(node, ast.AugAssign):
+                            self.assertIsInstance(node.value, ast.Constant)
+                        if isinstance(node, ast.Call) and isinstance(node.func, ast.Attribute):
+                            self.assertTrue(node.func.attr not in CHANGING or base_of(node.func.value) in made)
+                        if isinstance(node, ast.Call) and isinstance(node.func, ast.Name):
+                            self.assertNotIn(node.func.id, parameters)
+
+    def test_ends_of_with_statements_and_of_tries(self):
+        for name, _, tree in trees():
+            ends = [row for each in functions_of(tree) if each.name == "__exit__" for row in each.body]
+            ends += [row for node in ast.walk(tree) if isinstance(node, ast.Try) for row in node.finalbody]
+            for row in ends:
+                with self.subTest(name=name, line=row.lineno):
+                    self.assertIsInstance(row, ast.Assign)
+                    self.assertIsInstance(row.targets[0], ast.Attribute)
+                    self.assertIsInstance(row.value, (ast.Name, ast.Attribute))
+
+    def test_lambdas(self):
+        for name, _, tree in trees():
+            lambdas = [node for node in ast.walk(tree) if isinstance(node, ast.Lambda)]
+            lines = [node.lineno for node in lambdas]
+            for function in functions_of(tree):
+                names = [each.arg for node in lambdas if node in list(ast.walk(function)) for each in node.args.args]
+                with self.subTest(name=name, function=function.name):
+                    self.assertEqual(len(set(lines)), len(lines))
+                    self.assertEqual(len(set(names)), len(names))
+
+    def test_what_is_given_away_is_not_read(self):
+        for name, _, tree in trees():
+            with self.subTest(name=name):
+                self.assertNotIn("_", names_read(tree))
+
+    def test_stars_stand_over_names_in_calls(self):
+        for name, _, tree in trees():
+            for node in ast.walk(tree):
+                if isinstance(node, ast.Call):
+                    for each in node.args:
+                        if isinstance(each, ast.Starred):
+                            with self.subTest(name=name, line=node.lineno):
+                                self.assertIsInstance(each.value, (ast.Name, ast.Attribute))
 
     def test_decorators(self):
         for name, _, tree in trees():
