@@ -20,9 +20,8 @@ class Console:
     def say(self, line):
         """The answer to a line."""
         word, values = understood(line)
-        answer = ANSWERS[word]
         try:
-            return answer(self._desk, *values)
+            return answered(self._desk, word, values)
         except InvalidPlace:
             return "InvalidPlace"
         except InvalidNumber:
@@ -55,6 +54,12 @@ def fits(word, kind):
     if word == "" or not all([letter in DIGITS for letter in word]):
         return False
     return word == "0" or word[0] != "0"
+
+
+def answered(desk, word, values):
+    """The answer of a desk to a line that begins with this word."""
+    answer = ANSWERS[word]
+    return answer(desk, *values)
 
 
 def in_words(places):

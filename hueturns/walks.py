@@ -39,8 +39,8 @@ def first_walk(net, start, goal, many):
     """The first walk of just so many roads, None if there is none."""
     need_ends(net, start, goal)
     need_number(many, MOST_WALKED)
-    if goal not in places_after(net, start, many):
-        return None
+    if many == 0:
+        return (start,) if start == goal else None
     firsts, moves = moves_by(net)
     # From the stands at index n the goal can be reached by n roads more.
     hopeful = [stands_at(goal)]
@@ -48,6 +48,8 @@ def first_walk(net, start, goal, many):
         hopeful.append(stands_behind(moves, hopeful[-1]))
     walk = [start]
     ahead = firsts[start]
+    if ahead & hopeful[-1] == 0:
+        return None
     for left in range(many - 1, -1, -1):
         # No two of the stands to which one can go are at the same place: so the first one is at the least place.
         stand = first_stand(ahead & hopeful[left])

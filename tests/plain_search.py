@@ -14,6 +14,12 @@ LONG = tuple(map(Net.read, (
     "6: 0-1a 0-2a 0-5b 1-3b 1-4b 2-3b 2-5a 3-4a", "6: 0-1a 0-5b 1-2b 1-5d 2-3a 2-5d 4-5d",
     "6: 0-2b 0-5d 1-4b 1-5a 2-4d 2-5b 3-4d 3-5a", "6: 0-1a 0-5b 1-2b 2-3a 3-4b 4-5a")))
 
+# Nets of nine places in which where walks stand comes again only after more than hundred roads.
+LATE = tuple(map(Net.read, (
+    "9: 0-2b 0-4a 1-2e 1-8a 2-4b 3-5f 3-7c 4-8a 5-6e 5-7f 6-8b",
+    "9: 0-3f 0-4b 1-2d 1-4e 2-6e 3-4b 3-7c 4-7b 5-6c 5-8b 6-8c",
+    "9: 0-3b 0-4e 0-5b 1-3d 1-8b 2-4b 2-6f 3-8b 4-6b 5-7d 7-8e")))
+
 
 def all_nets(size, hues):
     """All nets of a size with these hues."""

@@ -6,7 +6,7 @@ import unittest
 from hueturns.nets import Net
 from hueturns.rounds import rounds_at
 from hueturns.walks import has_turn, has_walk, turn_numbers
-from tests.plain_search import LONG, all_nets, all_walks, hues_of, stands_after, triple_of, turns_told
+from tests.plain_search import LATE, LONG, all_nets, all_walks, hues_of, stands_after, triple_of, turns_told
 from tests.samples import DULL, EMPTY_NINE, FULL, KITE, LONE, PATH, SQUARE, THREE, some_net, some_nets
 
 SMALL = [*all_nets(1, "a"), *all_nets(2, "abc"), *all_nets(3, "abc")]
@@ -85,12 +85,14 @@ class TestManyRoads(unittest.TestCase):
             for place in range(net.size):
                 with self.subTest(net=str(net), place=place):
                     self.assertEqual([has_turn(net, place, many) for many in range(50)], turns_told(net, place, 50))
+        for net in LATE:
+            self.assertEqual([has_turn(net, 0, many) for many in range(180)], turns_told(net, 0, 180))
 
     def test_great_numbers(self):
         source = random.Random(63)
         others = [some_net(source, size, hues, share) for size in (6, 7, 8, 9) for hues in ("ab", "abc")
                   for share in (0.2, 0.3)]
-        for net in (*LONG, *DOCUMENTS, *others, LONE, EMPTY_NINE):
+        for net in (*LONG, *LATE, *DOCUMENTS, *others, LONE, EMPTY_NINE):
             for place in (0, net.size - 1):
                 for many in GREAT:
                     with self.subTest(net=str(net), place=place, many=many):

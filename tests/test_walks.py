@@ -6,7 +6,7 @@ import unittest
 
 from hueturns.nets import Net
 from hueturns.walks import count_walks, first_walk, has_walk, reach, walk_numbers
-from tests.plain_search import LONG, all_nets, all_walks, is_path, stands_after, triple_of, walks_told
+from tests.plain_search import LATE, LONG, all_nets, all_walks, is_path, stands_after, triple_of, walks_told
 from tests.samples import DULL, EMPTY_NINE, FULL, KITE, LONE, PATH, SQUARE, THREE, some_net
 
 SMALL = [*all_nets(1, "a"), *all_nets(2, "abc"), *all_nets(3, "abc")]
@@ -99,7 +99,7 @@ class TestManyRoads(unittest.TestCase):
             self.check(net, range(net.size))
 
     def test_other_nets(self):
-        for net in LONG:
+        for net in (*LONG, *LATE):
             self.check(net, (0, 5))
         for net in some_of(52, (5, 6, 7, 8, 9), (0.2, 0.3)):
             self.check(net, (0, net.size - 1))
@@ -115,7 +115,7 @@ class TestManyRoads(unittest.TestCase):
             self.assertEqual([place for place in range(7) if has_walk(seven, 0, place, many)], list(expected))
 
     def test_each_number_up_to_three_hundred(self):
-        for net in (SQUARE, KITE, LONG[4]):
+        for net in (SQUARE, KITE, LONG[4], *LATE):
             self.assertEqual([has_walk(net, 0, 1, many) for many in range(300)], walks_told(net, 0, 1, 300))
 
 
